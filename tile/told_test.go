@@ -67,7 +67,7 @@ func TestS4TouchedOfEveryRectangle(t *testing.T) {
 	for x := range cut.shape.Width {
 		for w := 1; x+w <= cut.shape.Width; w++ {
 			for y := 0; y < cut.shape.Height; y++ {
-				for h := 1; y+h <= cut.shape.Height; h += 1 + h%3 {
+				for h := 1; y+h <= cut.shape.Height; h++ {
 					r := api.Rect{X: x, Y: y, W: w, H: h}
 					told, e := g.Touched(r)
 					if e != api.OK || !slices.Equal(slices.Collect(told), meets(list, r)) {
